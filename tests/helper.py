@@ -1,0 +1,279 @@
+"""What the tests share: samples made by fixed rules, values of every kind, and plain looking through."""
+
+from itertools import product
+
+from coverjoin.errors import BadQuery, BadStore, JoinError
+from coverjoin.tries import Trie
+
+TRIANGLE = (3, ((0, 1), (0, 2), (1, 2)))
+TRIANGLE_STORE = (((0, 0), (0, 1), (1, 0)), ((0, 0), (0, 1), (1, 0)), ((0, 0), (1, 0)))
+PATH = (3, ((0, 1), (1, 2)))
+STAR = (4, ((0, 3), (1, 3), (2, 3)))
+RING = (4, ((0, 1), (1, 2), (2, 3), (0, 3)))
+PARTS = (4, ((0, 1), (2,), (2, 3)))
+EQUAL = (2, ((0, 1), (0, 1), (1,)))
+ONE = (1, ((0,),))
+WIDE = (8, tuple(tuple(a for a in range(8) if a != k) for k in range(8)))
+LINES = (7, ((0, 1, 2), (0, 3, 4), (0, 5, 6), (1, 3, 5), (1, 4, 6), (2, 3, 6), (2, 4, 5)))
+NAMED = (TRIANGLE, PATH, STAR, RING, PARTS, EQUAL, ONE, WIDE, LINES)
+
+LAST = 10 ** 18 - 1
+
+
+class Dice:
+    """Numbers by a fixed rule, the same ones in each run."""
+
+    def __init__(self, seed):
+        self.state = seed * 2654435761 + 12345
+
+    def below(self, many):
+        self.state = (self.state * 6364136223846793005 + 1442695040888963407) % 2 ** 64
+        return (self.state >> 33) % many
+
+    def one_of(self, items):
+        return items[self.below(len(items))]
+
+
+def subsets(items):
+    """All ascending tuples of some of the items, the empty one first."""
+    found = [()]
+    for item in items:
+        found = found + [part + (item,) for part in found]
+    return sorted(found)
+
+
+def all_queries(many, most):
+    """All queries of so many attributes and at most so many atoms."""
+    atoms = [atom for atom in subsets(range(many)) if atom]
+    for length in range(1, most + 1):
+        for chosen in product(atoms, repeat=length):
+            if {a for atom in chosen for a in atom} == set(range(many)):
+                yield many, chosen
+
+
+def small_queries():
+    for many, most in ((1, 3), (2, 3), (3, 2)):
+        yield from all_queries(many, most)
+
+
+def some_query(dice, most_many, most_atoms):
+    while True:
+        many = 1 + dice.below(most_many)
+        atoms = []
+        for _ in range(1 + dice.below(most_atoms)):
+            atoms.append(tuple(a for a in range(many) if dice.below(2)))
+        if all(atoms) and {a for atom in atoms for a in atom} == set(range(many)):
+            return many, tuple(atoms)
+
+
+def some_queries(many, most_many, most_atoms, seed=1):
+    dice = Dice(seed)
+    return [some_query(dice, most_many, most_atoms) for _ in range(many)]
+
+
+def some_store(dice, query, limit, rows):
+    """A store of numbers below limit, with at most so many rows in each table."""
+    tables = []
+    for atom in query[1]:
+        table = {tuple(dice.below(limit) for _ in atom) for _ in range(dice.below(rows + 1))}
+        tables.append(tuple(sorted(table)))
+    return tuple(tables)
+
+
+def all_stores(query, limit):
+    """All stores of numbers below limit."""
+    tables = [subsets(product(range(limit), repeat=len(atom))) for atom in query[1]]
+    return product(*tables)
+
+
+def part(row, places):
+    return tuple(row[place] for place in places)
+
+
+def plain_answers(query, store):
+    """All answers, by looking through all tuples of the numbers that are there."""
+    numbers = sorted({n for table in store for row in table for n in row})
+    tables = [set(table) for table in store]
+    found = []
+    for row in product(numbers, repeat=query[0]):
+        if all(part(row, query[1][k]) in tables[k] for k in range(len(tables))):
+            found.append(row)
+    return tuple(found)
+
+
+def powers_of(counts, exponents):
+    result = 1
+    for count, exponent in zip(counts, exponents, strict=True):
+        result *= count ** exponent
+    return result
+
+
+def comes_to(counts, shares, number):
+    """Whether number is at most what counts come to by shares, by plain multiplying."""
+    return number ** shares[1] <= powers_of(counts, shares[0])
+
+
+def candidates(query, most):
+    """All shares with numerators up to the denominator, which is at most this."""
+    for denominator in range(1, most + 1):
+        for numerators in product(range(denominator + 1), repeat=len(query[1])):
+            yield numerators, denominator
+
+
+# Values of every kind, and what is told of them plainly.
+
+def a_trie():
+    return Trie(ONE, (((0,),),), (0,), 0)
+
+
+def every_kind():
+    return [None, True, False, 0, 1, -1, 7, LAST, LAST + 1, -LAST - 1, "", "a", "0", (), (0,), (1,), (0, 1), [], [0],
+            [()], {}, {0: 0}, ((),), ((0,),), ((0, 1),), (True,), (False, True), ("a",), (None,), ([],), (0, [1]),
+            JoinError("text"), a_trie(), [[[[[]]]]], ((((0,),),),), {"a": [0]}]
+
+
+def spoilt(value):
+    """Values that are unlike this one at one place, at any depth."""
+    if isinstance(value, tuple):
+        yield from (list(value), value[:-1], value + (0,), value + ((),), value[::-1], {}, None, "text", 0, True)
+        if value:
+            yield value + value[-1:]
+            yield value[1:]
+            yield value[:1] + value
+            yield dict(enumerate(value))
+        for k in range(len(value)):
+            for other in spoilt(value[k]):
+                yield value[:k] + (other,) + value[k + 1:]
+    elif isinstance(value, list):
+        yield from (tuple(value), value[:-1], value + [0], {}, None)
+        for k in range(len(value)):
+            for other in spoilt(value[k]):
+                yield value[:k] + [other] + value[k + 1:]
+    elif isinstance(value, int):
+        yield from (bool(value), not value, None, str(value), [value], (value,), value + 1, value - 1, -1 - value,
+                    LAST, LAST + 1, -LAST, -LAST - 1, {value: value}, 0, 999, 1000, -999, -1000)
+    elif value is None:
+        yield from (0, 1, True, False, "None", (), [])
+
+
+def wrong_values(value):
+    return list(spoilt(value)) + every_kind()
+
+
+def number(value):
+    return type(value) is int and -10 ** 18 < value < 10 ** 18
+
+
+def numbers(value, many, low, high=LAST):
+    """Whether it is a tuple of so many numbers from low to high."""
+    if type(value) is not tuple or len(value) != many:
+        return False
+    return all(number(item) and low <= item <= high for item in value)
+
+
+def rising(value, low, high):
+    """Whether it is an ascending tuple of numbers from low to high."""
+    if type(value) is not tuple or not numbers(value, len(value), low, high):
+        return False
+    return list(value) == sorted(set(value))
+
+
+def good_query(value):
+    if type(value) is not tuple or len(value) != 2 or not number(value[0]):
+        return False
+    many, atoms = value
+    if many not in range(1, 9) or type(atoms) is not tuple or len(atoms) not in range(1, 9):
+        return False
+    if not all(rising(atom, 0, many - 1) and atom for atom in atoms):
+        return False
+    return {a for atom in atoms for a in atom} == set(range(many))
+
+
+def good_store(query, value):
+    if type(value) is not tuple or len(value) != len(query[1]):
+        return False
+    for atom, table in zip(query[1], value):
+        if type(table) is not tuple or not all(numbers(row, len(atom), 0) for row in table):
+            return False
+        if list(table) != sorted(set(table)):
+            return False
+    return True
+
+
+def good_wanted(query, value):
+    return value is None or rising(value, 0, query[0] - 1)
+
+
+def good_order(query, value):
+    return numbers(value, query[0], 0) and sorted(value) == list(range(query[0]))
+
+
+def good_shares(query, value):
+    if type(value) is not tuple or len(value) != 2:
+        return False
+    return numbers(value[0], len(query[1]), 0) and number(value[1]) and value[1] >= 1
+
+
+def good_cover(query, value, wanted=None):
+    if not good_shares(query, value):
+        return False
+    for a in range(query[0]) if wanted is None else wanted:
+        if sum(value[0][k] for k, atom in enumerate(query[1]) if a in atom) < value[1]:
+            return False
+    return True
+
+
+def good_keys(query, value):
+    if type(value) is not tuple or len(value) > 20:
+        return False
+    for key in value:
+        if type(key) is not tuple or len(key) != 2 or not number(key[0]) or key[0] not in range(len(query[1])):
+            return False
+        if not rising(key[1], 0, query[0] - 1) or not key[1] or not set(key[1]) <= set(query[1][key[0]]):
+            return False
+    return list(value) == sorted(set(value))
+
+
+# Guards: for places among the arguments, from the left, the error for what is wrong there,
+# and a judge that is given the arguments up to this one.
+
+QUERY = (BadQuery, lambda query: good_query(query))
+STORE = (BadStore, lambda query, store: good_store(query, store))
+
+
+def check_guards(test, function, good, guards):
+    """That each wrong value for a parameter raises its error, whatever is wrong behind it."""
+    for place, (error, judge) in enumerate(guards):
+        if error is None:
+            continue
+        behind = [k for k in range(place + 1, len(good)) if k < len(guards)]
+        for bad in wrong_values(good[place]):
+            if judge(*good[:place], bad):
+                continue
+            tries = [good[:place] + (bad,) + good[place + 1:]]
+            for wrong in ("wrong", None, True):
+                tries.append(good[:place] + (bad,) + tuple(wrong if k in behind else good[k]
+                                                           for k in range(place + 1, len(good))))
+            for arguments in tries:
+                with test.subTest(function=function.__name__, place=place, bad=bad):
+                    with test.assertRaises(error) as caught:
+                        function(*arguments)
+                    test.assertIs(type(caught.exception), error)
+
+
+def check_judge(test, judge, plain, samples):
+    """That a judge tells, of samples, of what is unlike them at one place, and of values of every
+    kind, what is told plainly, and True or False itself."""
+    for sample in samples:
+        for value in [sample] + wrong_values(sample):
+            with test.subTest(value=value):
+                test.assertIs(judge(value), bool(plain(value)))
+
+
+def raised(function, *arguments):
+    """The error that a call raises, None if it raises none of the package's."""
+    try:
+        function(*arguments)
+    except JoinError as error:
+        return error
+    return None

@@ -1,0 +1,60 @@
+import importlib
+import inspect
+import re
+import unittest
+
+# What has landed of the interface, module by module, in its order.
+LANDED = """
+checks: is_query(value), is_store(query, value)
+tables: sizes(query, store), is_order(query, value), renamed(query, store, places), restricted(query, store, attribute, number), values_at(query, store, attribute)
+answers: answers(query, store), is_answer(query, store, value)
+shares: is_shares(query, value), is_cover(query, value, wanted=None), least_terms(query, shares), is_within(query, counts, shares, number), most_within(query, counts, shares), compared_shares(query, counts, one, other)
+covers: least_sum(query, exponents, wanted=None), sum_cover(query, exponents, wanted=None), sum_weights(query, exponents, wanted=None), is_sum_weights(query, exponents, value, wanted=None), is_least_sum(query, exponents, cover, weights, wanted=None), is_corner(query, value), is_middle(query, cover, one, other), two_ways(query, cover), exponents_for(query, corner)
+bounds: least_cover(query, counts), top_powers(query, counts), are_powers(query, counts, value), is_least_cover(query, counts, cover, powers), beyond_store(query, shares), full_store(query, numbers), tight_store(query, exponents, weights, root), floor_store(query, counts, powers), filled_store(query, store, counts)
+keys: are_keys(query, value), broken_key(query, keys, store), keeps_keys(query, keys, store), told_by(query, keys, attributes), telling(query, keys, attributes, attribute), is_telling(query, keys, attributes, attribute, value), two_answers(query, keys, attributes)
+colours: key_chain(query, keys, order), chain_reaches(query, keys, order), is_chain_cover(query, keys, order, value), least_chain(query, keys, order, exponents), is_least_chain(query, keys, order, exponents, cover, weights), is_colouring(query, keys, value), colours_at(query, keys, colouring, attributes), colour_store(query, keys, colouring, root), told_first(query, keys), best_colouring(query, keys, exponents), sum_store(root)
+tries: Trie(query, store, order, at)
+meets: meet(lists), least_stretches(lists), apart(lists), is_paper(lists, value), is_apart(lists, value)
+"""
+
+TRIE = "rows(self), many(self, start), next_numbers(self, start), seek(self, start, number), " \
+       "hole(self, start, number), __contains__(self, value)"
+
+
+def listed(text):
+    return re.findall(r"(\w+)(\([^)]*\))", text)
+
+
+class TestInterface(unittest.TestCase):
+
+    def test_names_arguments_defaults_and_places(self):
+        for line in LANDED.strip().split("\n"):
+            name, _, rest = line.partition(": ")
+            module = importlib.import_module("coverjoin." + name)
+            for word, arguments in listed(rest):
+                thing = getattr(module, word)
+                self.assertEqual(str(inspect.signature(thing)), arguments, word)
+                self.assertEqual(thing.__module__, module.__name__, word)
+
+    def test_methods_stand_in_the_class_itself(self):
+        from coverjoin.tries import Trie
+        for word, arguments in listed(TRIE):
+            self.assertEqual(str(inspect.signature(vars(Trie)[word])), arguments, word)
+
+    def test_each_imports_only_from_those_ahead(self):
+        ahead = ["errors", "exact"]
+        for line in LANDED.strip().split("\n"):
+            name = line.partition(": ")[0]
+            text = inspect.getsource(importlib.import_module("coverjoin." + name))
+            for other in re.findall(r"^from coverjoin\.(\w+) import", text, re.MULTILINE):
+                self.assertIn(other, ahead, name)
+            ahead.append(name)
+
+    def test_init_defines_nothing(self):
+        import coverjoin
+        with open(coverjoin.__file__, encoding="utf-8") as file:
+            self.assertEqual(file.read().strip(), "")
+
+
+if __name__ == "__main__":
+    unittest.main()
