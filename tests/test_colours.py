@@ -224,6 +224,7 @@ class TestColourings(unittest.TestCase):
         self.assertEqual(colours_at(TOLD, TOLD_KEYS, COLOURS, (1, 2)), (7,))
         self.assertEqual(colours_at(TOLD, TOLD_KEYS, COLOURS, (0, 1, 2)), (1, 7))
         self.assertEqual(colours_at(TOLD, (), ((), (), ()), (0, 1, 2)), ())
+        self.assertEqual(colours_at(TOLD, (), ((5, 8), (1, LAST), (16,)), (0, 1, 2)), (1, 5, 8, 16, LAST))
 
     def test_wrong(self):
         attributes = (BadAttributes, lambda query, keys, colouring, value: rising(value, 0, query[0] - 1))

@@ -1,7 +1,7 @@
 import unittest
 from itertools import product
 
-from coverjoin.exact import power, root_below, sign_of
+from coverjoin.exact import _bounded_power, _bounded_product, _is_above, power, root_below, sign_of
 from helper import LAST, Dice, powers_of
 
 
@@ -53,11 +53,33 @@ class TestSignOf(unittest.TestCase):
             one, two, three = LAST - shift, LAST - shift - 1, LAST - shift - 2
             self.assertEqual(sign_of((one, two, three), (1, -2, 1)), -1)
             self.assertEqual(sign_of((one, two, three), (-999, 1998, -999)), 1)
+        # Powers of 2 and 3, the nearest ones to each other, on either side.
+        for two, three, sign in ((8, 5, 1), (19, 12, -1), (84, 53, -1), (485, 306, 1), (1054, 665, -1)):
+            self.assertEqual(sign_of((2, 3), (two, -three)), sign)
+            self.assertEqual(self.plain((2, 3), (two, -three)), sign)
+            self.assertEqual(sign_of((2, 3), (-two * 400, three * 400)), -sign)
         dice = Dice(3)
         for _ in range(60):
             bases = [LAST - dice.below(9) for _ in range(4)]
             exponents = [dice.below(400) - 200 for _ in range(4)]
             self.assertEqual(sign_of(bases, exponents), self.plain(bases, exponents))
+
+    def test_ranges_have_what_they_stand_for(self):
+        for bits in (4, 9, 64):
+            for base, exponent in product((2, 3, 10, 97, LAST), range(1, 40)):
+                low, high, shift = _bounded_power(base, exponent, bits)
+                self.assertTrue(low << shift <= base ** exponent <= high << shift)
+                self.assertLessEqual(high.bit_length(), bits + 1)
+                low, high, shift = _bounded_product([(base, exponent), (7, 5)], bits)
+                self.assertTrue(low << shift <= base ** exponent * 7 ** 5 <= high << shift)
+
+    def test_ranges_are_compared(self):
+        for low, high in product((1, 2, 3, 4, 7, 8, 9), repeat=2):
+            for one, other in product((0, 1, 2, 3, 50), repeat=2):
+                self.assertIs(_is_above((low, 99, one), (1, high, other)), low << one > high << other)
+        self.assertIs(_is_above((0, 1, 10 ** 6), (1, 1, 0)), False)
+        self.assertIs(_is_above((1, 1, 10 ** 17), (1, 2 ** 70, 10 ** 16)), True)
+        self.assertIs(_is_above((1, 1, 10 ** 16), (1, 2 ** 70, 10 ** 17)), False)
 
 
 if __name__ == "__main__":
