@@ -89,7 +89,11 @@ def _are_colours(value):
 
 def _keeps_colours(atom, tellers, colouring):
     told = {colour for teller in tellers for colour in colouring[teller]}
-    return all(colour in told for attribute in atom for colour in colouring[attribute])
+    for attribute in atom:
+        for colour in colouring[attribute]:
+            if colour not in told:
+                return False
+    return True
 
 
 def check_colouring(query, keys, colouring):
