@@ -2,7 +2,7 @@
 
 from itertools import product
 
-from coverjoin.errors import BadQuery, BadStore, JoinError
+from coverjoin.errors import BadOrder, BadQuery, BadStore, BadThrifty, JoinError
 from coverjoin.tries import Trie
 
 TRIANGLE = (3, ((0, 1), (0, 2), (1, 2)))
@@ -277,3 +277,157 @@ def raised(function, *arguments):
     except JoinError as error:
         return error
     return None
+
+
+# The engine, by plain going through.
+
+def agrees(atom, row, order, beginning):
+    """Whether a row has the beginning's numbers at those of its atom's attributes that are among the first of the order."""
+    return all(row[atom.index(a)] == n for a, n in zip(order, beginning) if a in atom)
+
+
+def plain_beginnings(query, store, order, level):
+    numbers = sorted({n for table in store for row in table for n in row})
+    found = []
+    for beginning in product(numbers, repeat=level):
+        if all(any(agrees(atom, row, order, beginning) for row in table) for atom, table in zip(query[1], store)):
+            found.append(beginning)
+    return tuple(found)
+
+
+def plain_lists(query, store, order, beginning):
+    """The lists of the atoms with the attribute of the beginning's level, in their sequence."""
+    attribute = order[len(beginning)]
+    lists = []
+    for atom, table in zip(query[1], store):
+        if attribute in atom:
+            rows = [row for row in table if agrees(atom, row, order, beginning)]
+            lists.append(tuple(sorted({row[atom.index(attribute)] for row in rows})))
+    return tuple(lists)
+
+
+def plain_leader(lists):
+    return min(range(len(lists)), key=lambda k: (len(lists[k]), k))
+
+
+def plain_asks(lists, leader, number):
+    """How many lists are asked for a number, and whether all have it."""
+    asks = 0
+    for k, other in enumerate(lists):
+        if k != leader:
+            asks += 1
+            if number not in other:
+                return asks, False
+    return asks, True
+
+
+def leap(lists):
+    """The numbers met, and the jumps, told one by one."""
+    met, jumps, bound, run = [], 0, 0, 0
+    while True:
+        left = [n for n in lists[jumps % len(lists)] if n >= bound]
+        jumps += 1
+        if not left:
+            return tuple(met), jumps
+        run = run + 1 if left[0] == bound and run else 1
+        bound = left[0]
+        if run == len(lists):
+            met.append(bound)
+            bound, run = bound + 1, 0
+
+
+def plain_engine(query, store, order):
+    """The steps, asks and jumps of each level."""
+    many = query[0]
+    steps, asks, jumps = [0] * many, [0] * many, [0] * many
+    for level in range(many):
+        for beginning in plain_beginnings(query, store, order, level):
+            lists = plain_lists(query, store, order, beginning)
+            leader = plain_leader(lists)
+            steps[level] += len(lists[leader])
+            asks[level] += sum(plain_asks(lists, leader, n)[0] for n in lists[leader])
+            jumps[level] += leap(lists)[1]
+    return tuple(steps), tuple(asks), tuple(jumps)
+
+
+def turned(answer, order):
+    return tuple(answer[a] for a in order)
+
+
+def live_store(query, store):
+    """The store of the rows that are parts of answers, by plain looking through."""
+    found = plain_answers(query, store)
+    return tuple(tuple(sorted({part(row, atom) for row in found})) for atom in query[1])
+
+
+def samples(many, most_many, most_atoms, limit, rows, seed):
+    """Pairs of a query and a store, by a fixed rule, some with tables without rows."""
+    dice = Dice(seed)
+    for query in some_queries(many, most_many, most_atoms, seed + 1):
+        yield query, some_store(dice, query, limit, rows)
+    yield TRIANGLE, TRIANGLE_STORE
+
+
+def an_order(dice, query):
+    left = list(range(query[0]))
+    order = []
+    while left:
+        order.append(left.pop(dice.below(len(left))))
+    return tuple(order)
+
+
+ORDER = (BadOrder, lambda query, store, order: good_order(query, order))
+
+
+# Plans two by two, by plain joining.
+
+def plain_table(query, store, atoms, thrifty=False):
+    """The attributes and rows of the whole or the thrifty table of atoms, joined row by row."""
+    rows = [{}]
+    for at in atoms:
+        further = []
+        for known in rows:
+            for row in store[at]:
+                told = dict(zip(query[1][at], row))
+                if all(known.get(a, n) == n for a, n in told.items()):
+                    further.append({**known, **told})
+        rows = further
+    having = sorted({a for at in atoms for a in query[1][at]})
+    outside = {a for at, atom in enumerate(query[1]) if at not in atoms for a in atom}
+    kept = tuple(a for a in having if a in outside or not thrifty)
+    return kept, tuple(sorted({tuple(row[a] for a in kept) for row in rows}))
+
+
+def plain_nodes(plan):
+    """The tuples of atoms of a plan's nodes and leaves, the whole plan's last."""
+    if type(plan) is not tuple:
+        return [(plan,)]
+    left, right = plain_nodes(plan[0]), plain_nodes(plan[1])
+    return left + right + [tuple(sorted(left[-1] + right[-1]))]
+
+
+def plans_of(atoms):
+    """All plans of some atoms, but for the sides of their nodes: the least atom stands on the left."""
+    if len(atoms) == 1:
+        yield atoms[0]
+    for bits in range(2 ** (len(atoms) - 1) - 1):
+        left = [atoms[0]] + [at for k, at in enumerate(atoms[1:]) if bits >> k & 1]
+        right = [at for at in atoms if at not in left]
+        for one in plans_of(left):
+            for other in plans_of(right):
+                yield one, other
+
+
+def good_plan(query, value):
+    leaves = []
+
+    def is_node(plan, deep):
+        if type(plan) is tuple:
+            return len(plan) == 2 and deep < 9 and is_node(plan[0], deep + 1) and is_node(plan[1], deep + 1)
+        leaves.append(plan)
+        return number(plan)
+
+    return is_node(value, 0) and sorted(leaves) == list(range(len(query[1])))
+
+
+THRIFTY = (BadThrifty, lambda *arguments: arguments[-1] is True or arguments[-1] is False)

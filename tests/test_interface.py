@@ -15,10 +15,18 @@ keys: are_keys(query, value), broken_key(query, keys, store), keeps_keys(query, 
 colours: key_chain(query, keys, order), chain_reaches(query, keys, order), is_chain_cover(query, keys, order, value), least_chain(query, keys, order, exponents), is_least_chain(query, keys, order, exponents, cover, weights), is_colouring(query, keys, value), colours_at(query, keys, colouring, attributes), colour_store(query, keys, colouring, root), told_first(query, keys), best_colouring(query, keys, exponents), sum_store(root)
 tries: Trie(query, store, order, at)
 meets: meet(lists), least_stretches(lists), apart(lists), is_paper(lists, value), is_apart(lists, value)
+engine: beginnings(query, store, order, level), answers_by(query, store, order), steps_by(query, store, order), asks_by(query, store, order), jumps_by(query, store, order), cut(query, store, order, level)
+runs: Run(query, store, order), first_by(query, store, order, most), starts_by(query, store, order, level)
+orders: steps_at(query, store, known, attribute), least_left(query, store), least_order(query, store)
+pairs: is_plan(query, value), node_table(query, store, atoms, thrifty=False), middles(query, store, plan, thrifty=False), greatest_middle(query, store, plan, thrifty=False)
+within: plan_within(query, store, most, thrifty=False), lots_against(query, store, most, thrifty=False), is_against(query, store, most, value, thrifty=False)
+cores: is_core(query, value), core(query), steady_plan(query), dear_store(query, core, size), engine_order(query, core)
 """
 
-TRIE = "rows(self), many(self, start), next_numbers(self, start), seek(self, start, number), " \
-       "hole(self, start, number), __contains__(self, value)"
+METHODS = """
+tries.Trie: rows(self), many(self, start), next_numbers(self, start), seek(self, start, number), hole(self, start, number), __contains__(self, value)
+runs.Run: next_answer(self), steps(self), asks(self), seek(self, point), leave(self, level)
+"""
 
 
 def listed(text):
@@ -37,9 +45,12 @@ class TestInterface(unittest.TestCase):
                 self.assertEqual(thing.__module__, module.__name__, word)
 
     def test_methods_stand_in_the_class_itself(self):
-        from coverjoin.tries import Trie
-        for word, arguments in listed(TRIE):
-            self.assertEqual(str(inspect.signature(vars(Trie)[word])), arguments, word)
+        for line in METHODS.strip().split("\n"):
+            name, _, rest = line.partition(": ")
+            module, _, word = name.partition(".")
+            held = vars(getattr(importlib.import_module("coverjoin." + module), word))
+            for method, arguments in listed(rest):
+                self.assertEqual(str(inspect.signature(held[method])), arguments, name)
 
     def test_each_imports_only_from_those_ahead(self):
         ahead = ["errors", "exact"]

@@ -3,6 +3,7 @@ what the package does not use (generators, lambdas, try, with, decorators ..) is
 
 import ast
 import builtins
+import functools
 import os
 import re
 import sys
@@ -46,6 +47,7 @@ def read(name):
         return file.read()
 
 
+@functools.cache
 def trees():
     return {name: ast.parse(read(name)) for name in files() if name.endswith(".py")}
 
