@@ -83,17 +83,15 @@ def core(query):
     return None
 
 
-def grown(query):
-    """The atoms in a sequence, from the first one on, and for each atom one ahead of it there, its
-    parent, with which it shares the most attributes; each time an atom is taken that shares most.
-    If there is a join tree, this is one, as no tree of the atoms shares more."""
-    atoms = query[1]
-    sequence = [0]
-    parents = [0] * len(atoms)
+def grown(atoms, start):
+    """The atoms in a sequence, from the one at start on, and for each atom one ahead of it there, its
+    parent, itself for the first one; each time the atom is taken that shares the most attributes with
+    one that is taken. If there is a join tree, this is one, as no tree of the atoms shares more."""
+    sequence = [start]
+    parents = [start] * len(atoms)
     while len(sequence) < len(atoms):
-        links = [(shared_by(atoms[one], atoms[other]), -other, -one)
-                 for one in sequence for other in range(len(atoms)) if other not in sequence]
-        _, other, one = max(links)
+        left = [at for at in range(len(atoms)) if at not in sequence]
+        _, other, one = max([(shared_by(atoms[at], atoms[up]), -at, -up) for at in left for up in sequence])
         parents[-other] = -one
         sequence.append(-other)
     return sequence, tuple(parents)
@@ -107,7 +105,7 @@ def shared_by(one, other):
 def steady_plan(query):
     if core(query) is not None:
         return None
-    sequence = grown(query)[0]
+    sequence = grown(query[1], 0)[0]
     plan = sequence[0]
     for at in sequence[1:]:
         plan = (plan, at)

@@ -1,6 +1,6 @@
 """What the tests share: samples made by fixed rules, values of every kind, and plain looking through."""
 
-from itertools import product
+from itertools import permutations, product
 
 from coverjoin.errors import BadOrder, BadQuery, BadStore, BadThrifty, JoinError
 from coverjoin.tries import Trie
@@ -431,3 +431,169 @@ def good_plan(query, value):
 
 
 THRIFTY = (BadThrifty, lambda *arguments: arguments[-1] is True or arguments[-1] is False)
+
+
+# Acyclic queries, by the document's reading.
+
+def has_ears(query):
+    """Whether the query comes to one atom by taking out ears, one by one: atoms of which another one has all but
+    what no other has. So exactly acyclic queries do."""
+    atoms = [set(atom) for atom in query[1]]
+    changed = True
+    while changed:
+        changed = False
+        for k, atom in enumerate(atoms):
+            others = atoms[:k] + atoms[k + 1:]
+            lone = {a for a in atom if not any(a in other for other in others)}
+            if any(atom - lone <= other for other in others):
+                atoms.pop(k)
+                changed = True
+                break
+    return len(atoms) <= 1
+
+
+def good_layout_of(many, value):
+    if not numbers(value, many, 0, many - 1):
+        return False
+    if sum(up == at for at, up in enumerate(value)) != 1:
+        return False
+    for at in range(many):
+        for _ in range(many):
+            at = value[at]
+        if value[at] != at:
+            return False
+    return True
+
+
+def good_tree_of(atoms, value):
+    """Whether any value is a layout in which each attribute has one top."""
+    if not good_layout_of(len(atoms), value):
+        return False
+    for attribute in {a for atom in atoms for a in atom}:
+        tops = [at for at, atom in enumerate(atoms) if attribute in atom and
+                (value[at] == at or attribute not in atoms[value[at]])]
+        if len(tops) != 1:
+            return False
+    return True
+
+
+def good_layout(query, value):
+    return good_layout_of(len(query[1]), value)
+
+
+def good_tree(query, value):
+    return good_tree_of(query[1], value)
+
+
+def neighbours(query, one, other):
+    return any(one in atom and other in atom for atom in query[1])
+
+
+def good_knot(query, value):
+    if type(value) is not tuple or len(value) != 2 or type(value[0]) is not str or type(value[1]) is not tuple:
+        return False
+    word, told = value
+    if not numbers(told, len(told), 0, query[0] - 1) or len(set(told)) < len(told):
+        return False
+    if word == "lot":
+        held = [set(told) <= set(atom) for atom in query[1]]
+        rest = [any(set(told) - {a} <= set(atom) for atom in query[1]) for a in told]
+        return len(told) >= 3 and list(told) == sorted(told) and not any(held) and all(rest)
+    if word != "ring" or len(told) < 4 or told[0] != min(told) or told[1] >= told[-1]:
+        return False
+    beside = [(k, k + 1) for k in range(len(told) - 1)] + [(0, len(told) - 1)]
+    return all(neighbours(query, told[j], told[k]) == ((j, k) in beside) for k in range(len(told)) for j in range(k))
+
+
+def meet(query, one, row, other, there):
+    """Whether rows of two tables meet."""
+    left, right = dict(zip(query[1][one], row)), dict(zip(query[1][other], there))
+    return all(right.get(a, n) == n for a, n in left.items())
+
+
+def plain_semijoin(query, store, one, other):
+    return tuple(row for row in store[one] if any(meet(query, one, row, other, there) for there in store[other]))
+
+
+def plain_run(query, store, program):
+    tables, looked = list(store), []
+    for one, other in program:
+        looked.append(len(tables[one]) + len(tables[other]))
+        tables[one] = plain_semijoin(query, tables, one, other)
+    return tuple(tables), tuple(looked)
+
+
+def plain_agree(query, store):
+    many = range(len(store))
+    return all(plain_semijoin(query, store, one, other) == store[one] for one in many for other in many if one != other)
+
+
+def acyclic_queries(many, most_many, most_atoms, seed):
+    """So many acyclic queries, by a fixed rule, and some by hand."""
+    dice = Dice(seed)
+    found = [PATH, STAR, PARTS, EQUAL, ONE, (3, ((0, 1), (0, 2), (1, 2), (0, 1, 2))), (3, ((0,), (1,), (2,)))]
+    while len(found) < many + 7:
+        query = some_query(dice, most_many, most_atoms)
+        if has_ears(query):
+            found.append(query)
+    return found
+
+
+def acyclic_samples(many, most_many, most_atoms, limit, rows, seed):
+    dice = Dice(seed + 1)
+    for query in acyclic_queries(many, most_many, most_atoms, seed):
+        yield query, some_store(dice, query, limit, rows)
+
+
+def trees_of(query):
+    for value in product(range(len(query[1])), repeat=len(query[1])):
+        if good_tree(query, value):
+            yield value
+
+
+COVERED = (3, ((0, 1), (0, 2), (1, 2), (0, 1, 2)))
+
+
+def good_program(query, value):
+    if type(value) is not tuple or len(value) > 14:
+        return False
+    many = len(query[1])
+    return all(numbers(item, 2, 0, many - 1) and item[0] != item[1] for item in value)
+
+
+def sequences(items):
+    """All tuples of unlike items, the empty one among them."""
+    for length in range(len(items) + 1):
+        yield from permutations(items, length)
+
+
+def plain_trio(query, order):
+    """The first trio, as point 66 tells it, by going through all of them."""
+    places = [(k, i, j) for i in range(len(order)) for j in range(i + 1, len(order)) for k in range(j + 1, len(order))]
+    for k, i, j in sorted(places):
+        one, other, later = order[i], order[j], order[k]
+        if not neighbours(query, one, other) and neighbours(query, one, later) and neighbours(query, other, later):
+            return one, other, later
+    return None
+
+
+def good_sequence(query, value):
+    """Whether any value is a tuple of unlike attributes."""
+    return type(value) is tuple and numbers(value, len(value), 0, query[0] - 1) and len(set(value)) == len(value)
+
+
+def smooth_orders(query, attributes):
+    return [order for order in permutations(attributes) if plain_trio(query, order) is None]
+
+
+def good_box(many, value):
+    """Whether any value is a box for so many attributes."""
+    if type(value) is not tuple or len(value) != many:
+        return False
+    for stretch in value:
+        if type(stretch) is not tuple or len(stretch) != 2 or not number(stretch[0]) or stretch[0] < 0:
+            return False
+        low, high = stretch
+        if high is not None and not (number(high) and low <= high < LAST):
+            return False
+    return True

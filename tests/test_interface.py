@@ -21,11 +21,19 @@ orders: steps_at(query, store, known, attribute), least_left(query, store), leas
 pairs: is_plan(query, value), node_table(query, store, atoms, thrifty=False), middles(query, store, plan, thrifty=False), greatest_middle(query, store, plan, thrifty=False)
 within: plan_within(query, store, most, thrifty=False), lots_against(query, store, most, thrifty=False), is_against(query, store, most, value, thrifty=False)
 cores: is_core(query, value), core(query), steady_plan(query), dear_store(query, core, size), engine_order(query, core)
+acyclic: is_layout(query, value), is_tree(query, value), shared(query, layout), rooted(query, tree, atom), after(query, cuts), reduction(query), tree_by(query, cuts), tree_of(query), is_acyclic(query), is_knot(query, value), knot(query), knot_store(query)
+reduce: is_program(query, value), run(query, store, program), agree(query, store), program_of(query, tree), live(query, store), joined(query, store, tree), escape(query, program), is_full(query, program)
+counts: weights(query, store, tree), is_weights(query, store, tree, value), uses(query, store), count(query, store), trio(query, order), smooth_order(query, wished), dead_end(query, order), kth(query, store, order, place), place_of(query, store, order, answer)
+wished: wished_answers(query, store, wished), is_path(query, wished, value), path_of(query, wished), is_wished_tree(query, wished, value), wished_tree(query, wished), traces(query, wished), parts(query, store, wished), path_store(query, wished)
+gaps: Walk(query, store, wished, order), Union(lots)
+boxes: is_box(many, value), whole(many), unit(point), holds(box, point), overlap(one, other), lies_in(one, other), resolve(one, other, attribute), is_gap(query, store, index, box), trie_gaps(query, store, order)
 """
 
 METHODS = """
 tries.Trie: rows(self), many(self, start), next_numbers(self, start), seek(self, start, number), hole(self, start, number), __contains__(self, value)
 runs.Run: next_answer(self), steps(self), asks(self), seek(self, point), leave(self, level)
+gaps.Walk: forth(self), count(self), at(self, place), to(self, place), place(self, answer), has(self, answer), steps(self), looks(self)
+gaps.Union: forth(self), steps(self)
 """
 
 

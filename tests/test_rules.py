@@ -130,7 +130,7 @@ class TestRules(unittest.TestCase):
                 if isinstance(node, ast.Assign):
                     self.assertTrue(len(node.targets) == 1 and isinstance(node.targets[0], ast.Name), where)
                     for inner in ast.walk(node.value):
-                        self.assertIsInstance(inner, (ast.Constant, ast.BinOp, ast.operator), where)
+                        self.assertIsInstance(inner, (ast.Constant, ast.BinOp, ast.operator, ast.Tuple, ast.Load), where)
                     seen.append(node.targets[0].id)
                 if isinstance(node, (ast.FunctionDef, ast.ClassDef)):
                     seen.append(node.name)
