@@ -1,7 +1,7 @@
 """Join trees, reductions, and the knots that queries without a tree have."""
 
 from coverjoin.checks import are_below, check_atom, check_query, is_ascending, is_below, is_pair
-from coverjoin.cores import are_together, grown, is_ring, parts_of, ring_of, shared_by
+from coverjoin.cores import are_together, core, grown, is_ring, shared_by
 from coverjoin.errors import BadCut, BadCuts, BadLayout, BadTree, Cyclic, NoKnot
 
 
@@ -177,15 +177,9 @@ def is_knot(query, value):
 
 
 def knot(query):
-    check_query(query)
-    # The fewest attributes come first, then the least ones; no attributes are both kinds.
-    for attributes in parts_of(list(range(query[0]))):
-        if _is_lot(query, attributes):
-            return "lot", attributes
-        ring = ring_of(query, attributes)
-        if ring is not None:
-            return "ring", ring
-    return None
+    # The first core has the fewest attributes, so of a lot each one less is in an atom, as a
+    # lesser lot would have come first: it is a knot, and each knot is a core.
+    return core(query)
 
 
 def knot_store(query):

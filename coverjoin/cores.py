@@ -2,6 +2,7 @@
 
 from coverjoin.checks import are_below, check_query, is_ascending, is_below, is_from, is_pair
 from coverjoin.errors import BadCore, BadSize
+from coverjoin.orders import parts_of
 from coverjoin.tables import parts_at
 
 # The greatest size of a dear store.
@@ -46,18 +47,6 @@ def is_core(query, value):
     return value[0] == "ring" and is_ring(query, value[1])
 
 
-def parts_of(items):
-    """All parts of the items, in their sequence, those with the fewest first."""
-    found = [()]
-    for item in items:
-        found = found + [part + (item,) for part in found]
-    return sorted(found, key=size_first)
-
-
-def size_first(part):
-    return len(part), part
-
-
 def ring_of(query, attributes):
     """The ring of just these attributes, ascending ones, that begins with the least of them and the
     lesser one of its two neighbours; None if there is none."""
@@ -74,6 +63,7 @@ def ring_of(query, attributes):
 
 def core(query):
     check_query(query)
+    # Those with the fewest attributes come first, of these the least ones; none are both kinds.
     for attributes in parts_of(list(range(query[0]))):
         if _is_lot(query, attributes):
             return "lot", attributes

@@ -147,13 +147,17 @@ def steps_behind(lists, known, attribute):
     return sum([least * ways for (least, _), ways in states.items()])
 
 
-def _met_at(lists, known, attribute):
-    """The pairs of the lists that are met at the attribute, and at how many beginnings."""
+def _met_by(query, store, order):
+    """For each level the pairs of lists that are met there, and at how many of its beginnings."""
+    lists = Lists(query, store)
     among = list(range(len(lists.atoms)))
-    level = lists.level(among, known, attribute)
-    kept = [at for at, _, _ in level]
-    states = ways_to(lists, among, thin_sequence(lists.atoms, known), {}, kept)
-    return [(lists_met(level, parts), ways) for (_, parts), ways in states.items()]
+    found = []
+    for k in range(len(order)):
+        level = lists.level(among, order[:k], order[k])
+        kept = [at for at, _, _ in level]
+        states = ways_to(lists, among, thin_sequence(lists.atoms, order[:k]), {}, kept)
+        found.append([(lists_met(level, parts), ways) for (_, parts), ways in states.items()])
+    return found
 
 
 def leader_of(lists):
@@ -206,11 +210,7 @@ def steps_by(query, store, order):
 
 def asks_by(query, store, order):
     check_engine(query, store, order)
-    lists = Lists(query, store)
-    asks = []
-    for k in range(len(order)):
-        asks.append(sum([_asks(met) * ways for met, ways in _met_at(lists, order[:k], order[k])]))
-    return tuple(asks)
+    return tuple([sum([_asks(lists) * ways for lists, ways in level]) for level in _met_by(query, store, order)])
 
 
 def _asks(lists):
@@ -220,11 +220,7 @@ def _asks(lists):
 
 def jumps_by(query, store, order):
     check_engine(query, store, order)
-    lists = Lists(query, store)
-    jumps = []
-    for k in range(len(order)):
-        jumps.append(sum([_jumps(met) * ways for met, ways in _met_at(lists, order[:k], order[k])]))
-    return tuple(jumps)
+    return tuple([sum([_jumps(lists) * ways for lists, ways in level]) for level in _met_by(query, store, order)])
 
 
 def _jumps(lists):

@@ -14,6 +14,14 @@ def steps_at(query, store, known, attribute):
     return steps_behind(Lists(query, store), known, attribute)
 
 
+def parts_of(items):
+    """All parts of the items, in their sequence, those with the fewest first."""
+    found = [()]
+    for item in items:
+        found = found + [part + (item,) for part in found]
+    return [part for _, part in sorted([(len(part), part) for part in found])]
+
+
 def _with(known, attribute):
     return tuple(sorted(known + (attribute,)))
 
@@ -22,25 +30,14 @@ def _further(many, known):
     return [attribute for attribute in range(many) if attribute not in known]
 
 
-def _all_known(many):
-    """All ascending tuples of attributes, those with more of them first."""
-    found = [()]
-    for attribute in range(many):
-        found = found + [known + (attribute,) for known in found]
-    return sorted(found, key=_lack)
-
-
-def _lack(known):
-    return -len(known)
-
-
 def _steps_left(query, store):
     """The pair of the dict of the least steps behind known attributes, and the dict of the steps at
     each pair of known attributes and a further one."""
     lists = Lists(query, store)
     left = {}
     steps = {}
-    for known in _all_known(query[0]):
+    # Those with more attributes come first, as the others are summed up from them.
+    for known in parts_of(list(range(query[0])))[::-1]:
         sums = []
         for attribute in _further(query[0], known):
             steps[(known, attribute)] = steps_behind(lists, known, attribute)

@@ -65,11 +65,8 @@ def lots_against(query, store, most, thrifty=False):
     plans = _plans(query, store, most, thrifty)
     if (1 << len(query[1])) - 1 in plans:
         return None
-    return sorted([_numbers(bits) for bits in plans], key=_size_first)
-
-
-def _size_first(lot):
-    return len(lot), lot
+    lots = [_numbers(bits) for bits in plans]
+    return [lot for _, lot in sorted([(len(lot), lot) for lot in lots])]
 
 
 def is_against(query, store, most, value, thrifty=False):

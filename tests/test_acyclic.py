@@ -11,6 +11,11 @@ from helper import check_guards, check_judge, every_kind, good_knot, good_layout
 from helper import plain_agree, raised, small_queries, some_queries, spoilt, subsets, wrong_values
 
 
+RINGS = [(many, tuple((k, k + 1) for k in range(many - 1)) + ((0, many - 1),)) for many in range(4, 9)]
+# Rings with lone attributes, further ones, and equal atoms.
+RINGS += [(6, ((0, 1), (1, 2), (2, 3), (3, 4), (0, 4, 5), (0,), (4,), (5,))),
+          (5, ((0, 2), (1, 2), (1, 3), (3, 4), (0, 4), (0, 4), (1,), (2,)))]
+
 
 def queries():
     yield from small_queries()
@@ -19,6 +24,7 @@ def queries():
     yield from some_queries(30, 8, 8, 220)
     yield from NAMED
     yield COVERED
+    yield from RINGS
 
 
 def few_queries():
@@ -223,6 +229,10 @@ class TestCuts(unittest.TestCase):
         self.assertIsNone(tree_by(PATH, (("lone", 0, 0), ("within", 0, 1))))
         self.assertEqual(tree_by(PATH, (("lone", 0, 0), ("within", 0, 1), ("lone", 1, 1), ("lone", 2, 1))), (1, 1))
         self.assertEqual(tree_by(ONE, (("lone", 0, 0),)), (0,))
+        self.assertIsNone(tree_by((2, ((0,), (1,))), (("lone", 0, 0),)))
+        self.assertIsNone(tree_by((2, ((0,), (1,))), (("lone", 1, 1),)))
+        self.assertIsNone(tree_by((2, ((0,), (1,))), (("lone", 0, 0), ("lone", 1, 1))))
+        self.assertEqual(tree_by((2, ((0,), (1,))), (("lone", 0, 0), ("within", 0, 1), ("lone", 1, 1))), (1, 1))
 
     def test_query_comes_first(self):
         for function in (after, tree_by):

@@ -163,6 +163,8 @@ class TestGaps(unittest.TestCase):
         line = (0, None)
         self.assertEqual(trie_gaps(ONE, ((),), (0,)), [(0, (line,))])
         self.assertEqual(trie_gaps(ONE, (((0,), (1,), (4,), (LAST,)),), (0,)), [(0, ((2, 3),)), (0, ((5, LAST - 1),))])
+        self.assertEqual(trie_gaps(ONE, (((0,), (LAST - 1,)),), (0,)), [(0, ((1, LAST - 2),)), (0, ((LAST, None),))])
+        self.assertEqual(trie_gaps(ONE, (((LAST - 2,),),), (0,)), [(0, ((0, LAST - 3),)), (0, ((LAST - 1, None),))])
         self.assertEqual(trie_gaps(PATH, (((LAST, 0),), ()), (0, 1, 2)),
                          [(0, ((0, LAST - 1), line, line)), (0, ((LAST, None), (1, None), line)), (1, (line, line, line))])
         self.assertEqual(trie_gaps(EQUAL, ((), ((0, 0),), ((0,),)), (1, 0)),
@@ -173,6 +175,18 @@ class TestGaps(unittest.TestCase):
         gaps.clear()
         self.assertEqual(len(trie_gaps(TRIANGLE, TRIANGLE_STORE, (0, 1, 2))),
                          len(plain_trie_gaps(TRIANGLE, TRIANGLE_STORE, (0, 1, 2))))
+
+    def test_every_point_is_an_answer_or_in_a_gap(self):
+        dice = Dice(72)
+        ends = [0, 1, LAST - 2, LAST - 1, LAST]
+        for query in (PATH, EQUAL, TRIANGLE):
+            for _ in range(20):
+                store = tuple(tuple(sorted({tuple(dice.one_of(ends) for _ in atom) for _ in range(6)})) for atom in query[1])
+                found = set(plain_answers(query, store))
+                gaps = trie_gaps(query, store, an_order(dice, query))
+                for point in product(ends + [2, LAST - 3], repeat=query[0]):
+                    held = any(all(has(s, n) for s, n in zip(gap, point)) for _, gap in gaps)
+                    self.assertEqual(held, point not in found)
 
     def test_all_orders(self):
         for order in permutations(range(3)):
@@ -195,8 +209,9 @@ class TestWrong(unittest.TestCase):
             one, other = ((0, 5),) * width, ((3, None),) * width
             check_guards(self, whole, (width,), [many])
             check_guards(self, is_box, (width, one), [many])
-            check_guards(self, unit, ((3,) * width,), [point])
-            check_guards(self, holds, (one, (3,) * width), [some_box, there])
+            for n in (0, 3):
+                check_guards(self, unit, ((n,) * width,), [point])
+                check_guards(self, holds, (one, (n,) * width), [some_box, there])
             for function in (overlap, lies_in):
                 check_guards(self, function, (one, other), [some_box, as_many])
             check_guards(self, resolve, (one, other, width - 1), [some_box, as_many, attribute])
