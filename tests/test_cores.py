@@ -92,7 +92,7 @@ class TestCore(unittest.TestCase):
         for query in list(all_queries(4, 3))[::60] + [RING, RING_AND_MORE, TRIANGLE]:
             for attributes in subsets(range(query[0])):
                 for told in permutations(attributes):
-                    for word in ("lot", "ring"):
+                    for word in ("lot", "ring", "tree", "", "lots"):
                         self.assertIs(is_core(query, (word, told)), good_core(query, (word, told)))
 
     def test_is_core_of_any_value(self):

@@ -185,6 +185,8 @@ class TestWrong(unittest.TestCase):
         check_guards(self, first_by, good + (2,), [QUERY, STORE, ORDER, most])
         level = (BadLevel, lambda query, store, order, level: number(level) and 1 <= level <= 3)
         check_guards(self, starts_by, good + (2,), [QUERY, STORE, ORDER, level])
+        # Where there is no answer, the level is judged as well.
+        check_guards(self, starts_by, (TRIANGLE, ((),) * 3, (2, 0, 1), 1), [QUERY, STORE, ORDER, level])
 
     def test_wrong_points_and_levels(self):
         run = Run(TRIANGLE, TRIANGLE_STORE, (2, 0, 1))

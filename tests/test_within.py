@@ -5,8 +5,8 @@ from coverjoin.cores import dear_store
 from coverjoin.errors import BadMost
 from coverjoin.pairs import greatest_middle
 from coverjoin.within import is_against, lots_against, plan_within
-from helper import ONE, PATH, QUERY, RING, STORE, THRIFTY, TRIANGLE, TRIANGLE_STORE, Dice, all_queries, check_guards
-from helper import every_kind, good_plan, number, plain_table, plans_of, rising, samples, some_store, wrong_values
+from helper import LAST, ONE, PATH, QUERY, RING, STORE, THRIFTY, TRIANGLE, TRIANGLE_STORE, Dice, all_queries, check_guards
+from helper import every_kind, good_plan, number, plain_table, plans_of, raised, rising, samples, some_store, wrong_values
 
 EIGHT = (8, tuple((k,) for k in range(8)))
 HUNDREDS = tuple(tuple((n,) for n in range(300)) for _ in range(8))
@@ -81,7 +81,7 @@ class TestWithin(unittest.TestCase):
             every = [tuple(at for at in range(len(query[1])) if bits >> at & 1) for bits in range(1, 2 ** len(query[1]))]
             lots = [lot for lot in every if len(lot) == 1]
             values = wrong_values(lots) + [lots + [lot] for lot in every] + [lots + list(two) for two in combinations(every, 2)]
-            for value in values + [tuple(lots), [*every[:-1]], every]:
+            for value in values + [tuple(lots), [*every[:-1]], every, lots + [()], [()] + lots, lots + [[0]]]:
                 for thrifty in (False, True):
                     with self.subTest(value=value):
                         self.assertIs(is_against(query, tables, most, value, thrifty),
@@ -104,6 +104,10 @@ class TestWithin(unittest.TestCase):
         good = (TRIANGLE, TRIANGLE_STORE, 4, True)
         for function in (plan_within, lots_against):
             check_guards(self, function, good, [QUERY, STORE, most, THRIFTY])
+        for function in (plan_within, lots_against, is_against):
+            for wrong in (20001, -1, LAST):
+                behind = (None, None) if function is is_against else (None,)
+                self.assertIs(type(raised(function, TRIANGLE, TRIANGLE_STORE, wrong, *behind)), BadMost)
         value = (None, None)
         check_guards(self, is_against, (TRIANGLE, TRIANGLE_STORE, 4, [], False), [QUERY, STORE, most, value, THRIFTY])
         for wrong in every_kind():
