@@ -108,10 +108,16 @@ def hull(one, other):
     return min(one[0], other[0]), max(one[1], other[1])
 
 
-def resolved(one, other, attribute):
-    """The resolvent of two boxes at an attribute, None if there is none."""
-    if not _touch(one[attribute], other[attribute]):
+def resolved(one, other, attribute, without=None):
+    """The resolvent of two boxes at an attribute, None if there is none.
+
+    Without "touch" or without "meet", rules of care, what these ask for is not asked for, and the
+    stretches at the attribute, or at all of them, reach from the lesser low to the greater high.
+    """
+    if without != "touch" and not _touch(one[attribute], other[attribute]):
         return None
+    if without == "meet":
+        return tuple([hull(one[k], other[k]) for k in range(len(one))])
     stretches = [in_common(one[k], other[k]) for k in range(len(one))]
     stretches[attribute] = hull(one[attribute], other[attribute])
     return None if None in stretches else tuple(stretches)
@@ -133,12 +139,17 @@ def _has_row(box, atom, row):
     return all(has_number(box[atom[k]], row[k]) for k in range(len(atom)))
 
 
+def is_gap_of(atom, table, box):
+    """Whether no row of the table, one for the atom, is in the box."""
+    return not any(_has_row(box, atom, row) for row in table)
+
+
 def is_gap(query, store, index, box):
     check_store(query, store)
     check_index(store, index)
     if not is_box_of(query[0], box):
         raise BadBox("not a box for the attributes of the query")
-    return not any(_has_row(box, query[1][index], row) for row in store[index])
+    return is_gap_of(query[1][index], store[index], box)
 
 
 def stretches_without(numbers):

@@ -16,7 +16,7 @@ class Lists:
 
     def __init__(self, query, store):
         self.atoms = query[1]
-        self.store = store
+        self.tables = store
         self._told = {}
 
     def behind(self, at, known, attribute):
@@ -27,7 +27,7 @@ class Lists:
             atom = self.atoms[at]
             places = [atom.index(other) for other in known + (attribute,)]
             told = {}
-            for row in sorted(parts_at(self.store[at], places)):
+            for row in sorted(parts_at(self.tables[at], places)):
                 told.setdefault(row[:-1], {})[row[-1]] = True
             self._told[key] = told
         return self._told[key]
@@ -51,7 +51,7 @@ class Lists:
         return tuple([() for _ in self.atoms])
 
     def have_rows(self, among):
-        return all(len(self.store[at]) > 0 for at in among)
+        return all(len(self.tables[at]) > 0 for at in among)
 
 
 def lists_met(level, parts):

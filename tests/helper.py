@@ -597,3 +597,159 @@ def good_box(many, value):
         if high is not None and not (number(high) and low <= high < LAST):
             return False
     return True
+
+
+def has(stretch, n):
+    """Whether a stretch has a number."""
+    return stretch[0] <= n and (stretch[1] is None or n <= stretch[1])
+
+
+def holds_plainly(box, point):
+    return all(has(stretch, n) for stretch, n in zip(box, point, strict=True))
+
+
+def plain_unit(point):
+    return tuple((n, None if n == LAST else n) for n in point)
+
+
+def plain_resolvent(one, other, attribute):
+    """The resolvent as point 80 tells it, None if there is none; by the ends of the stretches."""
+    ends = [[(low, LAST if high is None else high) for low, high in box] for box in (one, other)]
+    told = []
+    for k, ((low, high), (least, most)) in enumerate(zip(*ends)):
+        beside = k == attribute and (high + 1 == least or most + 1 == low)
+        if max(low, least) > min(high, most) and not beside:
+            return None
+        told.append((min(low, least), max(high, most)) if k == attribute else (max(low, least), min(high, most)))
+    return tuple((low, None if high == LAST else high) for low, high in told)
+
+
+def plain_shown(boxes, points, lines):
+    """The box that the last of lines shows, None if they are no list of lines."""
+    shown = []
+    for line in lines:
+        if type(line) is not tuple or not line or type(line[0]) is not str:
+            return None
+        word, *places = line
+        if not all(number(place) and place >= 0 for place in places):
+            return None
+        if word == "box" and len(places) == 1 and places[0] < len(boxes):
+            shown.append(boxes[places[0]])
+        elif word == "point" and len(places) == 1 and places[0] < len(points):
+            shown.append(plain_unit(points[places[0]]))
+        elif word == "join" and len(places) == 3 and max(places[:2]) < len(shown) and places[2] < len(shown[0]):
+            shown.append(plain_resolvent(shown[places[0]], shown[places[1]], places[2]))
+        else:
+            return None
+        if shown[-1] is None:
+            return None
+    return shown[-1] if shown else None
+
+
+def good_cover_of(many, boxes, points, value):
+    """Whether any value is a list of lines that shows the whole."""
+    return type(value) in (list, tuple) and plain_shown(boxes, points, value) == ((0, None),) * many
+
+
+def gap_plainly(query, store, index, box):
+    return not any(all(has(box[a], n) for a, n in zip(query[1][index], row)) for row in store[index])
+
+
+def answer_plainly(query, store, point):
+    return all(part(point, atom) in table for atom, table in zip(query[1], store))
+
+
+def good_paper(query, store, value):
+    """Whether any value is a paper, as point 83 tells it."""
+    if type(value) is not tuple or len(value) != 3 or not all(type(item) is tuple for item in value):
+        return False
+    points, gaps, lines = value
+    if not all(numbers(point, query[0], 0) and answer_plainly(query, store, point) for point in points):
+        return False
+    if list(points) != sorted(set(points)):
+        return False
+    for gap in gaps:
+        if type(gap) is not tuple or len(gap) != 2 or not number(gap[0]) or gap[0] not in range(len(store)):
+            return False
+        if not good_box(query[0], gap[1]) or not gap_plainly(query, store, *gap):
+            return False
+    return good_cover_of(query[0], [box for _, box in gaps], points, lines)
+
+
+# Hierarchical queries, by the document's reading.
+
+def lots_of_attributes(query):
+    return [{at for at, atom in enumerate(query[1]) if a in atom} for a in range(query[0])]
+
+
+def is_hierarchical(query):
+    lots = lots_of_attributes(query)
+    return all(one <= other or other <= one or not one & other for one in lots for other in lots)
+
+
+def plain_told_forest(query):
+    """The told forest of a hierarchical query, as point 90 tells it."""
+    lots = lots_of_attributes(query)
+    forest = []
+    for x in range(query[0]):
+        above = [a for a in range(query[0]) if lots[x] <= lots[a] and (len(lots[a]) > len(lots[x]) or
+                                                                      (len(lots[a]) == len(lots[x]) and a < x))]
+        forest.append(min(above, key=lambda a: (len(lots[a]), -a), default=None))
+    return tuple(forest)
+
+
+def plain_way(forest, attribute):
+    way = []
+    while attribute is not None and len(way) <= len(forest):
+        way.insert(0, attribute)
+        attribute = forest[attribute]
+    return tuple(way)
+
+
+def good_forest(query, value):
+    if type(value) is not tuple or len(value) != query[0]:
+        return False
+    for a, up in enumerate(value):
+        if up is not None and not (number(up) and up in range(query[0])):
+            return False
+    if any(len(plain_way(value, a)) > query[0] for a in range(query[0])):
+        return False
+    return all(any(set(plain_way(value, a)) == set(atom) for a in atom) for atom in query[1])
+
+
+def all_pairs_of(query):
+    """All tuples that show that the query is not hierarchical, ascending."""
+    atoms = query[1]
+    for one in range(query[0]):
+        for other in range(one + 1, query[0]):
+            for told in product(range(len(atoms)), repeat=3):
+                if [(one in atoms[at], other in atoms[at]) for at in told] == [(True, False), (True, True), (False, True)]:
+                    yield (one, other) + told
+
+
+def plain_sequence(query):
+    forest = plain_told_forest(query)
+    order = []
+
+    def go(above):
+        for a in range(query[0]):
+            if forest[a] == above:
+                order.append(a)
+                go(a)
+    go(None)
+    return tuple(order)
+
+
+def hierarchical_queries(many, most_many, most_atoms, seed):
+    """So many hierarchical queries by a fixed rule, and some by hand."""
+    dice = Dice(seed)
+    found = [ONE, (2, ((0,), (0, 1))), (2, ((0,), (1,))), (4, ((0, 1), (0, 1, 2), (0, 3), (0,))), (3, ((0, 1, 2), (0, 1, 2))),
+             (4, ((1, 2), (1, 3), (0,), (1,))), (1, ((0,), (0,), (0,)))]
+    while len(found) < many + 7:
+        query = some_query(dice, most_many, most_atoms)
+        if is_hierarchical(query):
+            found.append(query)
+    return found
+
+
+NOT_HIERARCHICAL = (2, ((0,), (0, 1), (1,)))

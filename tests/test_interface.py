@@ -27,6 +27,12 @@ counts: weights(query, store, tree), is_weights(query, store, tree, value), uses
 wished: wished_answers(query, store, wished), is_path(query, wished, value), path_of(query, wished), is_wished_tree(query, wished, value), wished_tree(query, wished), traces(query, wished), parts(query, store, wished), path_store(query, wished)
 gaps: Walk(query, store, wished, order), Union(lots)
 boxes: is_box(many, value), whole(many), unit(point), holds(box, point), overlap(one, other), lies_in(one, other), resolve(one, other, attribute), is_gap(query, store, index, box), trie_gaps(query, store, order)
+covering: covers_all(many, boxes, points, value), covered(many, boxes, points)
+papers: gaps_met(query, store, order), walk_levels(query, store, order), paper_of(query, store, order), lacks_none(query, store, value), skew(size)
+least: widest_gaps(query, store, index), least_gaps(query, store), lie_apart(query, store, value), points_apart(query, store)
+hierarchical: atoms_of(query, attribute), is_forest(query, value), hierarchy(query), is_hierarchy(query, value), way_to(query, forest, attribute), sequence(query)
+kept: entries(query, store, bits), extensions(query, store, attribute, values), Kept(query, bits)
+embedding: embedded(query, pair, matrix, left, right)
 """
 
 METHODS = """
@@ -34,6 +40,7 @@ tries.Trie: rows(self), many(self, start), next_numbers(self, start), seek(self,
 runs.Run: next_answer(self), steps(self), asks(self), seek(self, point), leave(self, level)
 gaps.Walk: forth(self), count(self), at(self, place), to(self, place), place(self, answer), has(self, answer), steps(self), looks(self)
 gaps.Union: forth(self), steps(self)
+kept.Kept: store(self), entries(self), count(self), put(self, atom, row), take(self, atom, row), kth(self, place), place(self, answer), ahead(self, answer), following(self, answer), is_answer(self, answer), answers(self)
 """
 
 
@@ -61,7 +68,7 @@ class TestInterface(unittest.TestCase):
                 self.assertEqual(str(inspect.signature(held[method])), arguments, name)
 
     def test_each_imports_only_from_those_ahead(self):
-        ahead = ["errors", "exact"]
+        ahead = ["errors", "exact", "masks"]
         for line in LANDED.strip().split("\n"):
             name = line.partition(": ")[0]
             text = inspect.getsource(importlib.import_module("coverjoin." + name))

@@ -14,9 +14,9 @@ import coverjoin
 FOLDER = os.path.dirname(os.path.abspath(coverjoin.__file__))
 
 NODES = """Module Expr Constant ImportFrom alias FunctionDef ClassDef arguments arg Return Assign AugAssign If For While
-Break Continue Pass Raise BinOp UnaryOp BoolOp Compare IfExp Call keyword Attribute Subscript Slice Name Load Store Tuple
+Break Continue Pass Raise Delete Del BinOp UnaryOp BoolOp Compare IfExp Call keyword Attribute Subscript Slice Name Load Store Tuple
 List Dict ListComp SetComp DictComp GeneratorExp comprehension JoinedStr FormattedValue Add Sub Mult FloorDiv Mod Pow LShift
-RShift BitAnd BitOr BitXor USub Not And Or Eq NotEq Lt LtE Gt GtE Is IsNot In NotIn""".split()
+RShift BitAnd BitOr BitXor Invert USub Not And Or Eq NotEq Lt LtE Gt GtE Is IsNot In NotIn""".split()
 
 # Builtins that are called, and how many arguments by position they take here.
 CALLED = {"len": (1, 1), "range": (1, 3), "enumerate": (1, 1), "zip": (2, 9), "min": (1, 9), "max": (1, 9),
