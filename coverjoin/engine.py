@@ -137,6 +137,29 @@ def _ended(least, parts, ended, measures):
     return least, without_parts(parts, ended)
 
 
+def products_sum(query, tables):
+    """The sum over all answers of the products of the numbers that their rows have, tables being dicts
+    from rows to numbers, none of them 0."""
+    lists = Lists(query, [list(table) for table in tables])
+    among = list(range(len(tables)))
+    sequence = thin_sequence(query[1], list(range(query[0])))
+    levels = lists.levels(among, sequence)
+    ends = ends_of(lists, among, sequence)
+    states = {lists.start(): 1} if lists.have_rows(among) else {}
+    for k in range(len(sequence)):
+        passed = {}
+        for parts, total in states.items():
+            for number in shared_numbers(levels[k], parts):
+                behind = parts_behind(levels[k], parts, number)
+                product = total
+                for at in ends[k + 1]:
+                    product = product * tables[at][behind[at]]
+                state = without_parts(behind, ends[k + 1])
+                passed[state] = passed.get(state, 0) + product
+        states = passed
+    return sum(list(states.values()))
+
+
 def steps_behind(lists, known, attribute):
     """The steps at the attribute, just those of known, in any sequence, being before it."""
     among = list(range(len(lists.atoms)))

@@ -23,7 +23,7 @@ def way_down(forest, attribute):
     return way
 
 
-def _has_parents(many, value):
+def has_parents(many, value):
     """Whether any value tells another attribute or None for each one, and none goes round."""
     if not isinstance(value, tuple) or len(value) != many:
         return False
@@ -48,7 +48,7 @@ def end_of(forest, atom):
 
 def is_forest(query, value):
     check_query(query)
-    if not _has_parents(query[0], value):
+    if not has_parents(query[0], value):
         return False
     return all(end_of(value, atom) is not None for atom in query[1])
 

@@ -2,7 +2,7 @@
 
 from itertools import permutations, product
 
-from coverjoin.errors import BadOrder, BadQuery, BadStore, BadThrifty, JoinError
+from coverjoin.errors import BadOrder, BadQuery, BadStore, BadThrifty, BadTree, JoinError
 from coverjoin.tries import Trie
 
 TRIANGLE = (3, ((0, 1), (0, 2), (1, 2)))
@@ -624,7 +624,7 @@ def plain_resolvent(one, other, attribute):
     return tuple((low, None if high == LAST else high) for low, high in told)
 
 
-def plain_shown(boxes, points, lines):
+def plain_shown(boxes, points, lines, join=plain_resolvent):
     """The box that the last of lines shows, None if they are no list of lines."""
     shown = []
     for line in lines:
@@ -638,7 +638,7 @@ def plain_shown(boxes, points, lines):
         elif word == "point" and len(places) == 1 and places[0] < len(points):
             shown.append(plain_unit(points[places[0]]))
         elif word == "join" and len(places) == 3 and max(places[:2]) < len(shown) and places[2] < len(shown[0]):
-            shown.append(plain_resolvent(shown[places[0]], shown[places[1]], places[2]))
+            shown.append(join(shown[places[0]], shown[places[1]], places[2]))
         else:
             return None
         if shown[-1] is None:
@@ -753,3 +753,74 @@ def hierarchical_queries(many, most_many, most_atoms, seed):
 
 
 NOT_HIERARCHICAL = (2, ((0,), (0, 1), (1,)))
+
+
+# Trees of bags.
+
+def good_bag(query, value):
+    return rising(value, 0, query[0] - 1) and len(value) > 0
+
+
+def good_bag_tree(query, value):
+    """Whether any value is a tree of bags, as point 100 tells it."""
+    if type(value) is not tuple or len(value) != 2 or type(value[0]) is not tuple or type(value[1]) is not tuple:
+        return False
+    bags, parents = value
+    if len(bags) not in range(1, 9) or len(parents) != len(bags) or not all(good_bag(query, bag) for bag in bags):
+        return False
+    for k, up in enumerate(parents):
+        if up is not None and not (number(up) and up in range(len(bags)) and up != k):
+            return False
+    if sum(up is None for up in parents) != 1:
+        return False
+    for k in range(len(bags)):
+        for _ in bags:
+            k = k if parents[k] is None else parents[k]
+        if parents[k] is not None:
+            return False
+    if not all(any(set(atom) <= set(bag) for bag in bags) for atom in query[1]):
+        return False
+    for a in range(query[0]):
+        tops = [k for k, bag in enumerate(bags) if a in bag and (parents[k] is None or a not in bags[parents[k]])]
+        if len(tops) != 1:
+            return False
+    return True
+
+
+def plain_bag(query, gone, attribute):
+    """The bag of an attribute, by going on from what is reached until there is nothing new."""
+    reached, bag = {attribute}, {attribute}
+    while True:
+        beside = {a for atom in query[1] if reached & set(atom) for a in atom}
+        bag |= beside - set(gone)
+        more = reached | (beside & set(gone))
+        if more == reached:
+            return tuple(sorted(bag))
+        reached = more
+
+
+def plain_bags(query, order):
+    return tuple(plain_bag(query, order[:k], a) for k, a in enumerate(order))
+
+
+def all_bag_trees(query, most):
+    """All trees of at most so many bags."""
+    bags = [bag for bag in subsets(range(query[0])) if bag]
+    for many in range(1, most + 1):
+        for chosen in product(bags, repeat=many):
+            for parents in product([None, *range(many)], repeat=many):
+                if good_bag_tree(query, (chosen, parents)):
+                    yield chosen, parents
+
+
+def order_tree(query, order):
+    """The tree of the bags of an order, by the document's reading."""
+    bags = plain_bags(query, order)
+    parents = []
+    for k, bag in enumerate(bags):
+        others = [order.index(a) for a in bag if a != order[k]]
+        parents.append(min(others) if others else len(bags) - 1)
+    return bags, tuple(parents[:-1] + [None])
+
+
+BAG_TREE = (BadTree, lambda *told: good_bag_tree(told[0], told[-1]))

@@ -4,8 +4,8 @@ from itertools import product
 from coverjoin.boxes import resolve, trie_gaps
 from coverjoin.covering import covered, covers_all
 from coverjoin.errors import BadBoxes, BadMany, BadPoints, TooMany
-from helper import LAST, TRIANGLE, TRIANGLE_STORE, Dice, check_guards, check_judge, every_kind, good_box, good_cover_of
-from helper import holds_plainly, number, numbers, plain_answers, plain_resolvent, plain_unit, raised, samples, wrong_values
+from helper import LAST, Dice, check_guards, check_judge, every_kind, good_box, good_cover_of, holds_plainly, number
+from helper import numbers, plain_answers, plain_resolvent, plain_unit, raised, samples, wrong_values
 
 LINE = (0, None)
 STRETCHES = [(low, high) for low in range(4) for high in range(low, 4)] + [(low, None) for low in range(4)]

@@ -5,8 +5,8 @@ from coverjoin.checks import is_store
 from coverjoin.embedding import embedded
 from coverjoin.errors import BadLeft, BadMatrix, BadPair, BadRight
 from coverjoin.hierarchical import hierarchy
-from helper import NOT_HIERARCHICAL, QUERY, RING, TRIANGLE, WIDE, Dice, all_pairs_of, check_guards, is_hierarchical, number
-from helper import numbers, raised, some_query, wrong_values
+from helper import NOT_HIERARCHICAL, QUERY, RING, TRIANGLE, WIDE, Dice, all_pairs_of, check_guards, is_hierarchical
+from helper import number, numbers, raised, some_query, wrong_values
 
 PAIR = ("pair", 0, 1, 0, 1, 2)
 

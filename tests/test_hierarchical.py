@@ -3,9 +3,9 @@ from itertools import product
 
 from coverjoin.errors import BadAttribute, BadForest, BadQuery, NotHierarchical
 from coverjoin.hierarchical import atoms_of, hierarchy, is_forest, is_hierarchy, sequence, way_to
-from helper import EQUAL, NAMED, NOT_HIERARCHICAL, ONE, PATH, QUERY, RING, TRIANGLE, all_pairs_of, all_queries, check_guards
-from helper import check_judge, good_forest, hierarchical_queries, is_hierarchical, number, plain_sequence, plain_told_forest
-from helper import plain_way, raised, small_queries, some_queries
+from helper import EQUAL, NAMED, NOT_HIERARCHICAL, ONE, PATH, QUERY, RING, TRIANGLE, all_pairs_of, all_queries
+from helper import check_guards, check_judge, good_forest, hierarchical_queries, is_hierarchical, number, plain_sequence
+from helper import plain_told_forest, plain_way, raised, small_queries, some_queries
 
 ROOTED = (2, ((0,), (0, 1)))
 WOOD = (8, ((0,), (0, 1), (0, 1, 2), (3, 4), (3, 5), (6,), (3,), (6, 7)))

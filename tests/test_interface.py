@@ -1,9 +1,10 @@
 import importlib
 import inspect
+import os
 import re
 import unittest
 
-# What has landed of the interface, module by module, in its order.
+# The interface, module by module, in its order.
 LANDED = """
 checks: is_query(value), is_store(query, value)
 tables: sizes(query, store), is_order(query, value), renamed(query, store, places), restricted(query, store, attribute, number), values_at(query, store, attribute)
@@ -33,6 +34,12 @@ least: widest_gaps(query, store, index), least_gaps(query, store), lie_apart(que
 hierarchical: atoms_of(query, attribute), is_forest(query, value), hierarchy(query), is_hierarchy(query, value), way_to(query, forest, attribute), sequence(query)
 kept: entries(query, store, bits), extensions(query, store, attribute, values), Kept(query, bits)
 embedding: embedded(query, pair, matrix, left, right)
+bagtrees: is_bag_tree(query, value), bag_at(query, gone, attribute), bags_of(query, order), bag_tree_of(query, order), order_from(query, tree)
+widths: weight(query, bag), width(query), width_paper(query), is_width_paper(query, value)
+bagplans: bag_cut(query, bag), bag_query(query, tree), bag_store(query, store, tree), by_bags(query, store, tree)
+care: care_rules(), joined_by(query, store, without), kept_rows(query, store, without, layout), useful_rows(query, store), taken_by(query, store, value, without), kept_count(query, changes, without), least_case(rule), is_case(rule, value)
+texts: query_text(query), store_text(query, store), read_query(text), read_store(query, text), answers_text(query, found)
+desk: Desk(query)
 """
 
 METHODS = """
@@ -41,6 +48,7 @@ runs.Run: next_answer(self), steps(self), asks(self), seek(self, point), leave(s
 gaps.Walk: forth(self), count(self), at(self, place), to(self, place), place(self, answer), has(self, answer), steps(self), looks(self)
 gaps.Union: forth(self), steps(self)
 kept.Kept: store(self), entries(self), count(self), put(self, atom, row), take(self, atom, row), kth(self, place), place(self, answer), ahead(self, answer), following(self, answer), is_answer(self, answer), answers(self)
+desk.Desk: store(self), say(self, line)
 """
 
 
@@ -66,6 +74,21 @@ class TestInterface(unittest.TestCase):
             held = vars(getattr(importlib.import_module("coverjoin." + module), word))
             for method, arguments in listed(rest):
                 self.assertEqual(str(inspect.signature(held[method])), arguments, name)
+
+    def test_attributes_of_classes(self):
+        from coverjoin.desk import Desk
+        from coverjoin.kept import Kept
+        from coverjoin.tries import Trie
+        query = (2, ((0, 1), (0,)))
+        self.assertEqual(Trie(query, ((), ()), (1, 0), 0).attributes, (1, 0))
+        self.assertEqual((Kept(query, 7).query, Kept(query, 7).bits), (query, 7))
+        self.assertEqual(Desk(query).query, query)
+
+    def test_all_modules_are_listed(self):
+        import coverjoin
+        names = sorted(name[:-3] for name in os.listdir(os.path.dirname(coverjoin.__file__)) if name.endswith(".py"))
+        listed_names = [line.partition(": ")[0] for line in LANDED.strip().split("\n")]
+        self.assertEqual(names, sorted(listed_names + ["__init__", "errors", "exact", "masks"]))
 
     def test_each_imports_only_from_those_ahead(self):
         ahead = ["errors", "exact", "masks"]

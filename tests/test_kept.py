@@ -6,10 +6,10 @@ from coverjoin.errors import BadAbove, BadAnswer, BadAtom, BadAttribute, BadBits
 from coverjoin.errors import NotHierarchical, NotThere, There
 from coverjoin.hierarchical import hierarchy
 from coverjoin.kept import Kept, entries, extensions
-from helper import LAST, NOT_HIERARCHICAL, ONE, PATH, QUERY, STORE, TRIANGLE, TRIANGLE_STORE, Dice, all_pairs_of, all_queries
-from helper import answer_plainly, check_guards, check_judge, every_kind, good_query, hierarchical_queries, is_hierarchical
-from helper import number, numbers, part, plain_answers, plain_sequence, plain_told_forest, plain_way, raised, some_store
-from helper import wrong_values
+from helper import LAST, NOT_HIERARCHICAL, ONE, PATH, QUERY, STORE, TRIANGLE, TRIANGLE_STORE, Dice, all_pairs_of
+from helper import all_queries, answer_plainly, check_guards, check_judge, every_kind, good_query, hierarchical_queries
+from helper import is_hierarchical, number, numbers, part, plain_answers, plain_sequence, plain_told_forest, plain_way
+from helper import raised, some_store, subsets, wrong_values
 
 HAND = (2, ((0,), (0, 1)))
 WOOD = (5, ((0,), (0, 1), (0, 1, 2), (3, 4), (3,)))
@@ -87,8 +87,7 @@ class TestEntries(unittest.TestCase):
     def test_entries_of_all_small_stores(self):
         for query in ((1, ((0,), (0,))), HAND, (2, ((0,), (1,))), (2, ((0, 1), (1,)))):
             rows = [[row for row in product(range(2), repeat=len(atom))] for atom in query[1]]
-            tables = [[tuple(row for k, row in enumerate(told) if bits >> k & 1) for bits in range(2 ** len(told))] for told in rows]
-            for store in product(*tables):
+            for store in product(*[subsets(told) for told in rows]):
                 self.assertEqual(entries(query, store, 1), plain_entries(query, store, 1, 2))
                 self.assertEqual(filled(query, store, 1).entries(), plain_entries(query, store, 1, 2))
 

@@ -25,7 +25,7 @@ CALLED = {"len": (1, 1), "range": (1, 3), "enumerate": (1, 1), "zip": (2, 9), "m
           "str": (1, 1), "int": (1, 1)}
 
 METHODS = """append clear copy count extend find get index insert items join keys pop remove reverse setdefault update values
-bit_length add discard""".split()
+bit_length add discard split""".split()
 
 LIBRARY = {"math": ("gcd", "lcm", "isqrt", "comb", "perm", "factorial")}
 
