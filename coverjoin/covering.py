@@ -94,7 +94,7 @@ class Lines:
         return None if high is None else high + 1
 
 
-class _Sweep:
+class Sweep:
     """Pieces, boxes with the lines that show them, gone through attribute by attribute."""
 
     def __init__(self, many):
@@ -161,7 +161,7 @@ def covered(many, boxes, points):
         raise TooMany(CELLS)
     pieces = [("box", k, boxes[k]) for k in range(len(boxes))]
     pieces.extend([("point", k, unit(points[k])) for k in range(len(points))])
-    sweep = _Sweep(many)
+    sweep = Sweep(many)
     if sweep.below(pieces, ()) is None:
         return "hole", sweep.left_out
     return "lines", tuple(sweep.lines.lines)

@@ -20,7 +20,7 @@ def _are_short(numbers, bits):
     return all(number < 1 << bits for number in numbers)
 
 
-class _Forest:
+class Forest:
     """The told forest of a hierarchical query, and where its atoms end."""
 
     def __init__(self, query):
@@ -81,7 +81,7 @@ def _in_sequence(entries):
 
 def _check_hierarchical(query):
     check_query(query)
-    return _Forest(query)
+    return Forest(query)
 
 
 def extensions(query, store, attribute, values):

@@ -22,7 +22,7 @@ def _stretch_around(numbers, number):
     return 0 if place == 0 else numbers[place - 1] + 1, numbers[place] - 1
 
 
-class _Walk:
+class EngineWalk:
     """The walk of an order. What it meets behind known numbers hangs on *starts* alone: for each atom
     what is known of its turned row, or None if this is all of it."""
 
@@ -103,7 +103,7 @@ def _meet_gaps(walk, level, starts, seen, gaps):
 def _walk_of(query, store, order):
     check_store(query, store)
     check_order(query, order)
-    return _Walk(query, store, order)
+    return EngineWalk(query, store, order)
 
 
 def _gaps_of(walk):
@@ -138,7 +138,7 @@ def walk_levels(query, store, order):
     return levels
 
 
-class _Writer:
+class Writer:
     """The lines of a paper, along a walk."""
 
     def __init__(self, walk, gaps, found):
@@ -189,7 +189,7 @@ def paper_of(query, store, order):
     walk = _walk_of(query, store, order)
     gaps = _gaps_of(walk)
     found = answers(query, store)
-    writer = _Writer(walk, gaps, found)
+    writer = Writer(walk, gaps, found)
     writer.below((), walk.start())
     return found, tuple(gaps), tuple(writer.lines.lines)
 

@@ -33,7 +33,7 @@ def _with(gone, attribute):
     return tuple(sorted(gone + (attribute,)))
 
 
-class _Search:
+class Search:
     """The orders of taking attributes out, by what is gone: nothing else tells the bags behind it."""
 
     def __init__(self, query):
@@ -97,12 +97,12 @@ class _Search:
 
 def width(query):
     check_query(query)
-    return _Search(query).best(())[0]
+    return Search(query).best(())[0]
 
 
 def width_paper(query):
     check_query(query)
-    search = _Search(query)
+    search = Search(query)
     least = search.best(())[0]
     tree = bag_tree_of(query, search.best_order())
     covers = tuple([sum_cover(query, _ones(query), bag) for bag in tree[0]])

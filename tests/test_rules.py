@@ -286,6 +286,7 @@ class TestRules(unittest.TestCase):
     def test_classes(self):
         for where, node, parents in self.everywhere():
             if isinstance(node, ast.ClassDef):
+                self.assertRegex(node.name, r"^[A-Za-z]", where)
                 self.assertLessEqual(len(node.bases), 1, where)
                 for inner in node.body:
                     self.assertIsInstance(inner, (ast.FunctionDef, ast.Expr), where)
