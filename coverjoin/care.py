@@ -1,7 +1,6 @@
 """The rules of care: what joining, reducing, judging and keeping counts come to without each of them."""
 
 from coverjoin.acyclic import check_tree, is_layout, is_tree
-from coverjoin.answers import answers
 from coverjoin.checks import are_from, check_query, check_store, is_below, is_pair, is_query, is_store
 from coverjoin.engine import products_sum
 from coverjoin.errors import BadChanges, BadRule, BadTree
@@ -162,7 +161,9 @@ def is_case(rule, value):
         # No answer lacks without a rule of joining: so just more tuples go wrong.
         return _many_joined(query, store, rule) != _many_answers(query, store)
     if rule in JUDGING:
-        return is_paper_of(query, store, value[2], rule) and not _are_all_answers(query, store, value[2][0])
+        # Whatever rule is left out, all points of a paper that is taken are answers, or all answers are
+        # among them: so just another number of points goes wrong.
+        return is_paper_of(query, store, value[2], rule) and len(value[2][0]) != _many_answers(query, store)
     layout = value[2]
     if not (is_layout(query, layout) if rule == "tree" else is_tree(query, layout)):
         return False
@@ -171,11 +172,6 @@ def is_case(rule, value):
 
 def _many_answers(query, store):
     return products_sum(query, [{row: 1 for row in table} for table in store])
-
-
-def _are_all_answers(query, store, points):
-    # There may be far more answers than points.
-    return len(points) == _many_answers(query, store) and points == answers(query, store)
 
 
 def _is_keeping_case(rule, value):

@@ -188,19 +188,19 @@ def _spared_by(near, left, k):
 
 def _apart(masks, many):
     """So many of the masks, or more, without a common bit; None if there are not so many."""
-    masks = _unspared(masks)
-    lots = lots_of_masks(masks)
-    if len(lots) != 1:
-        found = most_apart(masks)
-        return found if len(found) >= many else None
-    if len(masks) == 1 or many < 2:
-        return masks[:1] if many < 2 else None
-    if many_bits(_some_hitting(masks)) < many or _hitting(masks, many - 1) is not None:
-        return None
-    # The mask with most others near is left out, or taken.
-    near = [len([one for one in masks if one & mask > 0]) for mask in masks]
-    chosen = masks[near.index(max(near))]
-    found = _apart([mask for mask in masks if mask & chosen == 0], many - 1)
-    if found is not None:
-        return found + [chosen]
-    return _apart([mask for mask in masks if mask != chosen], many)
+    while True:
+        masks = _unspared(masks)
+        if len(lots_of_masks(masks)) != 1:
+            found = most_apart(masks)
+            return found if len(found) >= many else None
+        if many < 2:
+            return masks[:1]
+        if len(masks) == 1 or many_bits(_some_hitting(masks)) < many or _hitting(masks, many - 1) is not None:
+            return None
+        # The mask with most others near is taken, or left out.
+        near = [len([one for one in masks if one & mask > 0]) for mask in masks]
+        chosen = masks[near.index(max(near))]
+        found = _apart([mask for mask in masks if mask & chosen == 0], many - 1)
+        if found is not None:
+            return found + [chosen]
+        masks = [mask for mask in masks if mask != chosen]

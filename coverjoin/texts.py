@@ -72,11 +72,9 @@ def _numbers_behind(word, line):
 
 def _may_go_on(many, atoms):
     """Whether a query with so many attributes can begin with these atoms, the last one being new."""
-    if len(atoms) > ATOMS or len(atoms[-1]) == 0:
+    if len(atoms[-1]) == 0 or not is_ascending(atoms[-1]) or atoms[-1][-1] >= many:
         return False
-    if not is_ascending(atoms[-1]) or atoms[-1][-1] >= many:
-        return False
-    # Ahead of the last possible atom there may come one with all attributes.
+    # Behind all but the last possible atom there may come one with all attributes.
     return len(atoms) < ATOMS or is_query((many, atoms))
 
 

@@ -150,7 +150,7 @@ def spoilt(value):
             for other in spoilt(value[k]):
                 yield value[:k] + [other] + value[k + 1:]
     elif isinstance(value, int):
-        yield from (bool(value), not value, None, str(value), [value], (value,), value + 1, value - 1, -1 - value,
+        yield from (bool(value), not value, None, str(value), [value], (value,), value + 1, value - 1, -1 - value, -1,
                     LAST, LAST + 1, -LAST, -LAST - 1, {value: value}, 0, 999, 1000, -999, -1000)
     elif value is None:
         yield from (0, 1, True, False, "None", (), [])

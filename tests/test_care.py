@@ -462,6 +462,13 @@ class TestWrong(unittest.TestCase):
         for told in (good, tuple(good), []):
             check_guards(self, kept_count, (PATH, told, "once"), [QUERY, changes, self.rules(KEEPING)])
 
+    def test_words_of_changes(self):
+        for word in ("", "Put", "puts", "taken", None, 0, True, ("put",), ["put"], b"put"):
+            for changes in ([(word, 0, (5,))], [("put", 0, (5,)), (word, 0, (5,))]):
+                self.assertIs(type(raised(kept_count, ONE, changes, None)), BadChanges)
+                self.assertIs(is_case("once", (ONE, changes + [("put", 0, (5,))])), False)
+        self.assertIs(type(raised(kept_count, ONE, [("put", 0, (5,), 0)], None)), BadChanges)
+
     def test_rules_of_other_procedures(self):
         for rule in RULES + ("", "None", "no such rule"):
             for function, own, more in ((joined_by, JOINING, ()), (kept_rows, REDUCING, ((0, 0),))):

@@ -175,6 +175,11 @@ GOOD = (("box", 1), ("box", 2), ("join", 0, 1, 1), ("box", 0), ("join", 3, 2, 0)
 
 class TestCoversAll(unittest.TestCase):
 
+    def behind(self, lines, many):
+        """The lines with their places as they are behind so many further ones."""
+        return tuple((word, k + many, *[j + many for j in more[:1]], *more[1:]) if word == "join" else (word, k)
+                     for word, k, *more in lines)
+
     def test_by_hand(self):
         self.assertIs(covers_all(2, BOXES, POINTS, GOOD), True)
         self.assertIs(covers_all(2, BOXES, POINTS, list(GOOD)), True)
@@ -184,6 +189,12 @@ class TestCoversAll(unittest.TestCase):
                       (("box", 4),) + GOOD, (("point", 2),), (("join", 0, 0, 0),), (("box", 0), ("join", 0, True, 0)),
                       (("box", False),), (("box", 0, 0),), (("box",),), ((),), ("box",), ("box", 0)):
             self.assertIs(covers_all(2, BOXES, POINTS, value), False, value)
+        # Any line is judged, also ahead of those that show all.
+        for line in (("points", 0), ("Point", 0), ("", 0), ("point",), ("point", 0, 0), ("point", 2), ("point", -1), ("point", True),
+                     ("boxes", 0), ("box", 4), ("box", -1), ("box", 0, 0), ("join", 0, 0), ("joins", 0, 0, 0),
+                     ("join", 0, 0, 0, 0), (0, 0), (None, 0), ("box", None), ["box", 0], "box", None):
+            self.assertIs(covers_all(2, BOXES, POINTS, (("box", 0), line) + self.behind(GOOD, 2)), False, line)
+        self.assertIs(covers_all(2, BOXES, POINTS, (("box", 0), ("point", 1)) + self.behind(GOOD, 2)), True)
         # A line that shows nothing spoils all, wherever it stands.
         self.assertIs(covers_all(2, BOXES, POINTS, (("box", 0), ("box", 3), ("join", 0, 1, 0)) + GOOD), False)
         self.assertIs(covers_all(1, [(LINE,)], [], [("box", 0)]), True)

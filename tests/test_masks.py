@@ -33,15 +33,31 @@ def some_masks(many, width, most, seed):
         yield [1 + dice.below((1 << width) - 1) & ~dice.below(1 << width) or 1 for _ in range(dice.below(most + 1))]
 
 
+def thin_masks(many, width, most, seed):
+    """Masks of two or three bits each."""
+    dice = Dice(seed)
+    for _ in range(many):
+        found = []
+        while len(found) < most:
+            mask = 0
+            while bits(mask) < 2 + dice.below(2):
+                mask |= 1 << dice.below(width)
+            found.append(mask)
+        yield found
+
+
 class TestMasks(unittest.TestCase):
 
     def test_by_going_through_all(self):
         unlike = 0
-        for width, most, many in ((3, 6, 200), (6, 10, 300), (9, 14, 200)):
-            for masks in some_masks(many, width, most, width):
+        lists = [masks for width, most, many in ((3, 6, 200), (6, 10, 300), (9, 14, 200))
+                 for masks in some_masks(many, width, most, width)]
+        lists += [masks for width in range(6, 12) for masks in thin_masks(60, width, 2 * width, width)]
+        for masks in lists:
+            with self.subTest(masks=masks):
                 taken, apart = fewest_bits(masks), most_apart(masks)
                 self.assertTrue(all(taken & mask for mask in masks))
-                self.assertEqual(bits(taken), plain_fewest(masks, width))
+                self.assertEqual(bits(taken), plain_fewest(masks, 11))
                 self.assertTrue(all(mask in masks for mask in apart))
                 self.assertTrue(all(not one & other for one, other in combinations(apart, 2)))
                 self.assertEqual(len(apart), plain_most(masks))
