@@ -64,6 +64,16 @@ class TestMasks(unittest.TestCase):
                 unlike += bits(taken) != len(apart)
         self.assertGreater(unlike, 10)
 
+    def test_lists_side_by_side(self):
+        lists = list(thin_masks(40, 9, 14, 3))
+        for one, other in zip(lists, lists[1:]):
+            both = [mask for pair in zip(one, [mask << 9 for mask in other]) for mask in pair]
+            taken, apart = fewest_bits(both), most_apart(both)
+            self.assertTrue(all(taken & mask for mask in both))
+            self.assertEqual(bits(taken), plain_fewest(one, 9) + plain_fewest(other, 9))
+            self.assertTrue(all(not left & right for left, right in combinations(apart, 2)))
+            self.assertEqual(len(apart), plain_most(one) + plain_most(other))
+
     def test_rings_of_pairs(self):
         for width in range(3, 41):
             masks = [(1 << k) | (1 << (k + 1) % width) for k in range(width)]
