@@ -118,6 +118,17 @@ class TestIsWithin(unittest.TestCase):
             self.assertIs(type(raised(is_within, ONE, (-1,), shares, -1)), BadCounts)
         self.assertIsNone(raised(is_within, ONE, (1,), ((999,), 999), 1))
 
+    def test_too_many_at_any_place(self):
+        counts = (2, 3, 4)
+        for place in range(3):
+            for least in (0, 1, 999):
+                shares = tuple(1000 if k == place else least for k in range(3)), 2
+                for call in ((is_within, TRIANGLE, counts, shares, 1), (most_within, TRIANGLE, counts, shares),
+                             (compared_shares, TRIANGLE, counts, shares, HALVES),
+                             (compared_shares, TRIANGLE, counts, HALVES, shares)):
+                    error = raised(*call)
+                    self.assertEqual((type(error), error.most), (TooMany, 999))
+
     def test_wrong(self):
         check_guards(self, is_within, (TRIANGLE, (3, 3, 0), HALVES, 4), [QUERY, COUNTS, SHARES, NUMBER])
 
